@@ -1,0 +1,1 @@
+"""Lotplans: lot sizes over periods."""

@@ -1,0 +1,56 @@
+"""Whether values are of the kinds that the package takes."""
+
+from lotplans.errors import BadProblem
+
+GREATEST_ENTRY = 999
+MOST_PERIODS = 12
+
+
+def is_integer(value):
+    """Whether a value is an integer: True and False are none here."""
+    return type(value) is int
+
+
+def is_tuple_of(value, many):
+    """Whether a value is a tuple of so many things."""
+    return isinstance(value, tuple) and len(value) == many
+
+
+def is_entry(value):
+    """Whether a value is an integer from 0 to 999."""
+    return is_integer(value) and 0 <= value <= GREATEST_ENTRY
+
+
+def are_amounts(value, many):
+    """Whether a value is a tuple of so many integers of at least 0."""
+    return is_tuple_of(value, many) and all([is_integer(thing) and thing >= 0 for thing in value])
+
+
+def is_place(value, many):
+    """Whether a value is an integer from 0 up to, but without, many."""
+    return is_integer(value) and 0 <= value < many
+
+
+def are_places(value, many):
+    """Whether a value is an ascending tuple of different places below many."""
+    if not isinstance(value, tuple) or not all([is_place(thing, many) for thing in value]):
+        return False
+    return all([value[k - 1] < value[k] for k in range(1, len(value))])
+
+
+def has_problem_shape(value):
+    """Whether a value is a tuple of four tuples of one length, from 1 to 12."""
+    if not is_tuple_of(value, 4) or not all([isinstance(row, tuple) for row in value]):
+        return False
+    many = len(value[0])
+    return 1 <= many <= MOST_PERIODS and all([len(row) == many for row in value])
+
+
+def check_problem(problem):
+    """Raises BadProblem for a value that is not a problem."""
+    if not has_problem_shape(problem):
+        raise BadProblem(None, None)
+    for part, row in enumerate(problem):
+        for index, thing in enumerate(row):
+            if not is_entry(thing):
+                raise BadProblem(part, index)
