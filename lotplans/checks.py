@@ -1,6 +1,6 @@
 """Whether values are of the kinds that the package takes."""
 
-from lotplans.errors import BadProblem
+from lotplans.errors import BadProblem, NotPositive
 
 GREATEST_ENTRY = 999
 MOST_PERIODS = 12
@@ -19,6 +19,11 @@ def is_tuple_of(value, many):
 def is_entry(value):
     """Whether a value is an integer from 0 to 999."""
     return is_integer(value) and 0 <= value <= GREATEST_ENTRY
+
+
+def are_entries(value, many):
+    """Whether a value is a tuple of so many entries."""
+    return is_tuple_of(value, many) and all([is_entry(thing) for thing in value])
 
 
 def are_amounts(value, many):
@@ -54,3 +59,11 @@ def check_problem(problem):
         for index, thing in enumerate(row):
             if not is_entry(thing):
                 raise BadProblem(part, index)
+
+
+def check_positive(problem):
+    """Raises BadProblem for a value that is not a problem, NotPositive for one with a demand of 0."""
+    check_problem(problem)
+    for period, demand in enumerate(problem[0]):
+        if demand == 0:
+            raise NotPositive(period)

@@ -24,3 +24,9 @@ def lot_row(problem, start):
 def lot_table(problem):
     """The list of the rows of lots from each period on."""
     return [lot_row(problem, start) for start in range(len(problem[0]))]
+
+
+def kept_to_end(problem):
+    """The list of what keeping a unit from each period on, behind the last one too, costs."""
+    holdings = problem[3]
+    return [sum(holdings[period:]) for period in range(len(holdings))]

@@ -3,6 +3,9 @@
 import itertools
 import random
 import unittest
+from fractions import Fraction
+
+from lotplans.errors import BadProblem, NotPositive
 
 SMALL = ((2, 3, 4), (10, 10, 10), (0, 0, 0), (1, 1, 1))
 FAR = ((5, 1, 9), (4, 4, 4), (0, 0, 0), (2, 2, 2))
@@ -61,11 +64,20 @@ class Case(unittest.TestCase):
 
     def assert_problem_checked(self, call, *rest):
         """Each wrong problem raises BadProblem, whatever the other values are."""
-        from lotplans.errors import BadProblem
-        others = [rest] + [tuple(odd for _ in rest) for odd in (None, -1, "x", [])]
         for value, part, index in bad_problems():
-            for more in others:
+            for more in [rest] + [tuple(odd for _ in rest) for odd in (None, -1, "x", [])]:
                 self.assert_raised(BadProblem, {"part": part, "index": index}, call, value, *more)
+
+    def assert_positive_checked(self, call, *rest):
+        """Each wrong problem raises BadProblem, each demand of 0 NotPositive, whatever the other values are."""
+        self.assert_problem_checked(call, *rest)
+        for demands, index in (((0, 3, 4), 0), ((2, 0, 0), 1), ((2, 3, 0), 2), ((0, 0, 0), 0), ((1,) * 11 + (0,), 11)):
+            problem = (demands,) + ((1,) * len(demands),) * 3
+            for more in [rest] + [tuple(odd for _ in rest) for odd in (None, -1, "x", [])]:
+                self.assert_raised(NotPositive, {"index": index}, call, problem, *more)
+        # a thing that is not an entry comes first, even behind a demand of 0
+        bad = ((0, 3, 4), (1, 1, 1), (1, 1, 1), (1, 1, -1))
+        self.assert_raised(BadProblem, {"part": 3, "index": 2}, call, bad, *rest)
 
 
 def kept(problem, start, goal):
@@ -159,3 +171,126 @@ EDGES = [
     ((1,) * 12, (1,) * 12, (0,) * 12, (1,) * 12), ((0, 0, 4), (1, 1, 9), (0, 0, 0), (1, 0, 5)),
     ((4, 0, 0), (9, 1, 1), (3, 0, 0), (1, 1, 1)), ((0, 7, 0), (2, 2, 2), (0, 0, 0), (0, 0, 0)),
 ]
+
+
+def told(fraction):
+    """A ratio as the package tells it."""
+    return (fraction.numerator, fraction.denominator)
+
+
+def read_ratio(value):
+    return Fraction(value[0], value[1])
+
+
+def positive_problems(seed, times, longest, shortest=1):
+    """Problems in which all demands are more than 0."""
+    found = []
+    for problem in random_problems(seed, times, longest, shortest):
+        found.append((tuple(max(demand, 1) for demand in problem[0]),) + problem[1:])
+    return found
+
+
+POSITIVE_EDGES = [
+    ONE, SMALL, FAR, ((999,), (999,), (999,), (999,)), ((1,), (0,), (0,), (0,)),
+    ((1, 1), (5, 3), (0, 0), (1, 1)), ((1,) * 6, (0,) * 6, (0,) * 6, (0,) * 6),
+    ((999,) * 6, (999,) * 6, (999,) * 6, (999,) * 6), ((1,) * 6, (1,) * 6, (0,) * 6, (1,) * 6),
+    ((1, 2, 3, 4, 5, 6), (9, 1, 9, 1, 9, 1), (3, 0, 5, 0, 1, 7), (0, 1, 0, 2, 0, 3)),
+]
+
+
+def point_of(amounts, marks):
+    """The point of two lists of fractions."""
+    return (tuple(told(Fraction(x)) for x in amounts), tuple(told(Fraction(x)) for x in marks))
+
+
+def mixed_point(problem, source):
+    """A point that is a mixture of some interval plans with marks, by its construction."""
+    demands = problem[0]
+    many = len(demands)
+    plans = [plan for plan in interval_plans(problem)]
+    chosen = [source.choice(plans) for _ in range(source.randint(1, 5))]
+    weights = [source.randint(1, 5) for _ in chosen]
+    whole = sum(weights)
+    amounts, marks = [Fraction(0)] * many, [Fraction(0)] * many
+    for weight, plan in zip(weights, chosen):
+        for period in range(many):
+            amounts[period] += Fraction(weight * plan[period], whole)
+            if plan[period] or source.random() < 0.2:
+                marks[period] += Fraction(weight, whole)
+    return point_of(amounts, marks)
+
+
+def wild_point(problem, source):
+    """A point without regard to rows."""
+    demands = problem[0]
+    amounts = [Fraction(source.randint(0, 6), source.randint(1, 4)) for _ in demands]
+    amounts[0] += 1
+    whole = sum(amounts)
+    marks = [Fraction(1)] + [Fraction(source.randint(0, 6), 6) for _ in demands[1:]]
+    return point_of([amount * sum(demands) / whole for amount in amounts], marks)
+
+
+def nudged_point(problem, source):
+    """A mixed point with one mark a little lower, or some amount made later or earlier."""
+    amounts, marks = mixed_point(problem, source)
+    amounts = [read_ratio(value) for value in amounts]
+    marks = [read_ratio(value) for value in marks]
+    many = len(marks)
+    if many > 1 and source.random() < 0.5:
+        place = source.randint(1, many - 1)
+        marks[place] = max(Fraction(0), marks[place] - Fraction(1, source.choice([3, 20, 1000])))
+    else:
+        one, other = source.randrange(many), source.randrange(many)
+        moved = min(amounts[one], Fraction(1, source.choice([2, 30])))
+        amounts[one] -= moved
+        amounts[other] += moved
+    return point_of(amounts, marks)
+
+
+def all_rows(many):
+    return [(last, places) for last in range(many) for size in range(last + 2)
+            for places in itertools.combinations(range(last + 1), size)]
+
+
+def gap(problem, point, row):
+    """row_gap by its words, as a fraction."""
+    last, places = row
+    value = Fraction(0)
+    for period in range(last + 1):
+        if period in places:
+            value += read_ratio(point[1][period]) * sum(problem[0][period:last + 1])
+        else:
+            value += read_ratio(point[0][period])
+    return value - sum(problem[0][:last + 1])
+
+
+def breaks_some(problem, point):
+    return any(gap(problem, point, row) < 0 for row in all_rows(len(problem[0])))
+
+
+def bad_points():
+    """Values that are not points of a problem with the demands 2, 3, 4, each with the index of its BadPoint."""
+    amounts, marks = ((2, 1), (7, 2), (7, 2)), ((1, 1), (1, 2), (0, 1))
+    found = [(value, None) for value in ODD_VALUES]
+    found += [((amounts,), None), ((amounts, marks, marks), None), ([amounts, marks], None),
+              ((list(amounts), marks), None), ((amounts, list(marks)), None), ((amounts[:2], marks), None),
+              ((amounts, marks + ((1, 1),)), None), ((amounts, marks[:2]), None), ((None, marks), None),
+              ((amounts, 1), None), ((amounts, {}), None), (((), ()), None)]
+    things = [-1, 0, 2, True, None, "1", (), (1,), (1, 2, 3), [1, 2], {}, (2, 4), (0, 2), (1, 0), (0, 0), (1, -2),
+              (-1, 2), (-1, 1), (True, 1), (1, True), (0, True), (None, 1), ("1", 1), ((1, 1), 1), (-3, -2)]
+    for index in range(6):
+        for thing in things + ([(3, 2), (2, 1), (10 ** 30, 1)] if index >= 3 else []):
+            values = list(amounts + marks)
+            values[index] = thing
+            found.append(((tuple(values[:3]), tuple(values[3:])), index))
+            if index < 5:
+                values[5] = "later"
+                found.append(((tuple(values[:3]), tuple(values[3:])), index))
+    for value in (((2, 1), (7, 2), (4, 1)), ((0, 1), (0, 1), (0, 1)), ((10 ** 30, 1), (0, 1), (0, 1))):
+        found.append(((value, marks), 6))
+    for first in ((1, 2), (0, 1), (10 ** 30 - 1, 10 ** 30)):
+        found.append(((amounts, (first,) + marks[1:]), 6))
+    return found
+
+
+FINE_POINT = (((2, 1), (7, 2), (7, 2)), ((1, 1), (1, 2), (0, 1)))

@@ -170,7 +170,7 @@ class PlanOf(Case):
 
     def test_wrong_starts(self):
         fine = [(0,), (0, 1), ()]
-        for value in [odd for odd in ODD_VALUES if odd not in fine or odd == []] + [
+        for value in [odd for odd in ODD_VALUES if odd not in fine] + [
                 (0, 0), (1, 0), (0, 2, 1), (0, 3), (-1, 0), (0, 1, 1), (0, True), (False, 1), (0, None), (0, "1"),
                 [0], [0, 1], {0: 1}, "0", (0, (1,)), (1,), (1, 2), (2,), ()]:
             self.assert_raised(BadStarts, {}, plan_of, SMALL, value)
