@@ -1,6 +1,6 @@
 """Whether values are of the kinds that the package takes."""
 
-from lotplans.errors import BadProblem, NotPositive
+from lotplans.errors import BadPeriod, BadProblem, NotPositive
 
 GREATEST_ENTRY = 999
 MOST_PERIODS = 12
@@ -67,3 +67,9 @@ def check_positive(problem):
     for period, demand in enumerate(problem[0]):
         if demand == 0:
             raise NotPositive(period)
+
+
+def check_period(problem, value):
+    """Raises BadPeriod for a value that is not a period of the problem."""
+    if not is_place(value, len(problem[0])):
+        raise BadPeriod("not a period")

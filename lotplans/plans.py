@@ -2,6 +2,7 @@
 
 from lotplans.checks import are_amounts
 from lotplans.errors import BadPlan
+from lotplans.ratios import ONE, ZERO
 
 
 def stock_levels(demands, amounts):
@@ -45,3 +46,8 @@ def interval_plan(demands, periods):
     for start, end in zip(periods, ends):
         amounts[start] = sum(demands[start:end])
     return tuple(amounts)
+
+
+def start_marks(plan):
+    """The tuple of a mark for each period, as a ratio: 1 at the starts of the plan, 0 elsewhere."""
+    return tuple([ONE if amount > 0 else ZERO for amount in plan])

@@ -4,6 +4,7 @@ from lotplans.checks import are_places, check_positive, is_place, is_tuple_of
 from lotplans.errors import BadPoint, BadRow
 from lotplans.intervals import least_plan, stage_costs
 from lotplans.lots import kept_to_end
+from lotplans.plans import start_marks
 from lotplans.ratios import ONE, ZERO, is_less, is_ratio, minus, plus, ratio, times, total
 
 
@@ -88,8 +89,7 @@ def by_rows(problem):
     check_positive(problem)
     plan = least_plan(problem)
     amounts = tuple([(amount, 1) for amount in plan])
-    marks = tuple([ONE if amount > 0 else ZERO for amount in plan])
-    return ((stage_costs(problem)[-1], 1), (amounts, marks), tuple(asking_rows(problem)))
+    return ((stage_costs(problem)[-1], 1), (amounts, start_marks(plan)), tuple(asking_rows(problem)))
 
 
 def asking_rows(problem):

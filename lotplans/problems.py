@@ -1,6 +1,6 @@
 """Problems, their plans and what these cost."""
 
-from lotplans.checks import are_places, check_problem, is_place
+from lotplans.checks import are_places, check_period, check_problem
 from lotplans.errors import BadPeriod, BadPlan, BadStarts
 from lotplans.lots import unit_cost
 from lotplans.plans import check_plan, has_intervals, interval_plan, start_periods, stock_levels
@@ -9,11 +9,10 @@ from lotplans.plans import check_plan, has_intervals, interval_plan, start_perio
 def kept_cost(problem, start, goal):
     """What making a unit in one period and keeping it until another one costs."""
     check_problem(problem)
-    many = len(problem[0])
-    if not is_place(start, many):
-        raise BadPeriod("the first one is not a period")
-    if not is_place(goal, many) or goal < start:
-        raise BadPeriod("the second one is not a period from the first one on")
+    check_period(problem, start)
+    check_period(problem, goal)
+    if goal < start:
+        raise BadPeriod("the second period is ahead of the first one")
     return unit_cost(problem, start, goal)
 
 

@@ -294,3 +294,64 @@ def bad_points():
 
 
 FINE_POINT = (((2, 1), (7, 2), (7, 2)), ((1, 1), (1, 2), (0, 1)))
+
+
+def random_parts(problem, source):
+    many = source.randint(1, 6)
+    rows = [[0] * len(problem[0]) for _ in range(many)]
+    for period, demand in enumerate(problem[0]):
+        cuts = sorted(source.randint(0, demand) for _ in range(many - 1))
+        for row, low, high in zip(rows, [0] + cuts, cuts + [demand]):
+            row[period] = high - low
+    return tuple(tuple(row) for row in rows)
+
+
+def group_least(problem, parts, group):
+    demands = tuple(sum(parts[member][k] for member in group) for k in range(len(problem[0])))
+    return least_of((demands,) + problem[1:])
+
+
+def bad_parts():
+    """Values that are not parts of a problem with the demands 2, 3, 4, each with the index of its BadParts."""
+    fine = ((2, 0, 0), (0, 3, 4))
+    wrong = [(value, None) for value in ODD_VALUES if type(value) is not tuple]
+    wrong += [((), None), (list(fine), None), (((2, 3, 4),) + ((0, 0, 0),) * 6, None), (("x",) * 7, None)]
+    wrong += [(value, 0) for value in ODD_VALUES if type(value) is tuple and 1 <= len(value) <= 6]
+    for index in range(2):
+        for thing in (None, 5, "abc", [0, 3, 4], (0, 3), (0, 3, 4, 0), (0, 3, -1), (0, 3, 1000), (0, 3, True),
+                      (0, 3, None), (0, 3, (4,)), (), {}, False):
+            changed = list(fine)
+            changed[index] = thing
+            wrong.append((tuple(changed), index))
+            wrong.append((tuple(changed[:index + 1]) + ((9, 9, 9), "x"), index))
+    wrong += [(((2, 3, 4), (0, 0, 1)), 2), (((2, 3, 3),), 1), (((0, 0, 0),) * 6, 6), (((2, 3, 4), (2, 3, 4)), 2),
+              (((3, 2, 4),), 1)]
+    return wrong
+
+
+def bad_plans():
+    """Values that are not plans of a problem with the demands 2, 3, 4, each with the index of its BadPlan."""
+    found = [(value, None) for value in ODD_VALUES]
+    found += [(value, None) for value in ((2, 3), (2, 3, 4, 0), [2, 3, 4], (2, 3, True), (2, 3, None), (2, 3, "4"),
+                                          (2, 3, (4,)), (1, 4, -4), (10, -1, 0), {0: 2, 1: 3, 2: 4})]
+    found += [((1, 4, 4), 0), ((2, 2, 5), 1), ((2, 3, 3), 2), ((3, 3, 4), 3), ((2, 3, 5), 3), ((0, 0, 0), 0),
+              ((0, 0, 9), 0), ((2, 0, 7), 1), ((10 ** 30, 0, 0), 3)]
+    return found
+
+
+def some_plans(problem, source):
+    """Interval plans and others, with stocks ahead of starts too."""
+    found = list(interval_plans(problem))
+    source.shuffle(found)
+    found = found[:20]
+    for plan in found[:10]:
+        amounts = list(plan)
+        for _ in range(4):
+            late = source.randrange(len(amounts))
+            if amounts[late]:
+                early = source.randint(0, late)
+                moved = source.randint(0, amounts[late])
+                amounts[late] -= moved
+                amounts[early] += moved
+        found.append(tuple(amounts))
+    return found

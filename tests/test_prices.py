@@ -8,7 +8,8 @@ from fractions import Fraction
 from lotplans.errors import BadGroup, BadParts, BadProblem
 from lotplans.prices import group_cost, prices, shares, shows_prices, shows_shares
 from tests.helpers import (
-    EDGES, NOTHING, ODD_VALUES, ONE, SMALL, Case, kept, least_of, random_problems, read_ratio, told,
+    EDGES, NOTHING, ODD_VALUES, ONE, SMALL, Case, bad_parts, group_least, kept, least_of, random_parts, random_problems,
+    read_ratio, told,
 )
 
 PARTS = ((2, 0, 0), (0, 3, 4))
@@ -31,27 +32,12 @@ def groups(many):
     return [group for size in range(many + 1) for group in itertools.combinations(range(many), size)]
 
 
-def group_least(problem, parts, group):
-    demands = tuple(sum(parts[member][k] for member in group) for k in range(len(problem[0])))
-    return least_of((demands,) + problem[1:])
-
-
 def are_shares(problem, parts, fractions):
     """Point 8, by its words."""
     if sum(fractions) != least_of(problem):
         return False
     return all(sum(fractions[member] for member in group) <= group_least(problem, parts, group)
                for group in groups(len(parts)))
-
-
-def random_parts(problem, source):
-    many = source.randint(1, 6)
-    rows = [[0] * len(problem[0]) for _ in range(many)]
-    for period, demand in enumerate(problem[0]):
-        cuts = sorted(source.randint(0, demand) for _ in range(many - 1))
-        for row, low, high in zip(rows, [0] + cuts, cuts + [demand]):
-            row[period] = high - low
-    return tuple(tuple(row) for row in rows)
 
 
 def cases(seed, times, longest):
@@ -137,20 +123,7 @@ class Groups(Case):
             self.assertIs(type(group_cost(SMALL, PARTS, value)), int)
 
     def test_wrong_parts(self):
-        fine = ((2, 0, 0), (0, 3, 4))
-        wrong = [(value, None) for value in ODD_VALUES if type(value) is not tuple]
-        wrong += [((), None), (list(fine), None), (((2, 3, 4),) + ((0, 0, 0),) * 6, None), (("x",) * 7, None)]
-        wrong += [(value, 0) for value in ODD_VALUES if type(value) is tuple and 1 <= len(value) <= 6]
-        for index in range(2):
-            for thing in (None, 5, "abc", [0, 3, 4], (0, 3), (0, 3, 4, 0), (0, 3, -1), (0, 3, 1000), (0, 3, True),
-                          (0, 3, None), (0, 3, (4,)), (), {}, False):
-                changed = list(fine)
-                changed[index] = thing
-                wrong.append((tuple(changed), index))
-                wrong.append((tuple(changed[:index + 1]) + ((9, 9, 9), "x"), index))
-        wrong += [(((2, 3, 4), (0, 0, 1)), 2), (((2, 3, 3),), 1), (((0, 0, 0),) * 6, 6), (((2, 3, 4), (2, 3, 4)), 2),
-                  (((3, 2, 4),), 1)]
-        for parts, index in wrong:
+        for parts, index in bad_parts():
             self.assert_raised(BadParts, {"index": index}, group_cost, SMALL, parts, (0,))
             self.assert_raised(BadParts, {"index": index}, group_cost, SMALL, parts, "x")
             self.assert_raised(BadParts, {"index": index}, shares, SMALL, parts)

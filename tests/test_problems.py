@@ -8,26 +8,8 @@ from lotplans.errors import BadPeriod, BadPlan, BadProblem, BadStarts
 from lotplans.problems import cost, improved, is_interval, is_plan, kept_cost, plan_of, starts, stocks
 from tests.helpers import (
     EDGES, NOTHING, ODD_VALUES, ONE, SMALL, Case, all_plans, interval_plans, kept, plan_cost, random_problems,
-    start_list, stock_list,
+    some_plans, start_list, stock_list,
 )
-
-
-def some_plans(problem, source):
-    """Interval plans and others, with stocks ahead of starts too."""
-    found = list(interval_plans(problem))
-    source.shuffle(found)
-    found = found[:20]
-    for plan in found[:10]:
-        amounts = list(plan)
-        for _ in range(4):
-            late = source.randrange(len(amounts))
-            if amounts[late]:
-                early = source.randint(0, late)
-                moved = source.randint(0, amounts[late])
-                amounts[late] -= moved
-                amounts[early] += moved
-        found.append(tuple(amounts))
-    return found
 
 
 def moved_plan(problem, plan):
