@@ -1,8 +1,9 @@
 """Whether values are of the kinds that the package takes."""
 
-from lotplans.errors import BadPeriod, BadProblem, NotPositive
+from lotplans.errors import BadAmount, BadPeriod, BadProblem, NotPositive
 
 GREATEST_ENTRY = 999
+GREATEST_AMOUNT = 9999
 MOST_PERIODS = 12
 
 
@@ -73,3 +74,9 @@ def check_period(problem, value):
     """Raises BadPeriod for a value that is not a period of the problem."""
     if not is_place(value, len(problem[0])):
         raise BadPeriod("not a period")
+
+
+def check_amount(value):
+    """Raises BadAmount for a value that is not an integer from 1 to 9999."""
+    if not is_integer(value) or not 1 <= value <= GREATEST_AMOUNT:
+        raise BadAmount("not an integer from 1 to 9999")

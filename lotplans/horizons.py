@@ -3,7 +3,7 @@
 from lotplans.checks import MOST_PERIODS, check_problem
 from lotplans.errors import NotSteady, TooMany
 from lotplans.intervals import least_plan, stage_costs
-from lotplans.lots import lot_table
+from lotplans.lots import lot_table, part_of
 from lotplans.plans import start_marks, stock_levels
 
 
@@ -43,18 +43,13 @@ def check_steady(problem):
         raise NotSteady(period)
 
 
-def first_periods(problem, many):
-    """The problem of so many first periods alone."""
-    return tuple([row[:many] for row in problem])
-
-
 def firm(problem):
     """The first amounts that some least plan begins with, however the problem goes on at steady costs."""
     check_steady(problem)
     last = max(last_starts(problem)[-1], default=0)
     common = least_plan(problem)[:last]
     for many in range(max(last, 1), len(problem[0])):
-        common = common_row(common, least_plan(first_periods(problem, many)))
+        common = common_row(common, least_plan(part_of(problem, 0, many)))
     return common
 
 

@@ -6,6 +6,11 @@ def unit_cost(problem, start, goal):
     return problem[2][start] + sum(problem[3][start:goal])
 
 
+def part_of(problem, start, end):
+    """The problem of the periods from start up to, but without, end alone."""
+    return tuple([row[start:end] for row in problem])
+
+
 def lot_row(problem, start):
     """The list of what the lots from start up to, but without, each period cost; 0 up to start itself."""
     demands, setups, units, holdings = problem

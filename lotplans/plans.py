@@ -48,6 +48,33 @@ def interval_plan(demands, periods):
     return tuple(amounts)
 
 
+def single_plan(many, period, amount):
+    """The amounts of so many periods that are 0 but for one of them."""
+    return (0,) * period + (amount,) + (0,) * (many - period - 1)
+
+
+def setup_cost(problem, amounts):
+    """What the setups of the periods with an amount cost."""
+    return sum([setup for setup, amount in zip(problem[1], amounts) if amount > 0])
+
+
+def running_cost(problem, amounts, levels):
+    """What the units of the amounts cost, and keeping the stocks at the ends of the periods."""
+    making = sum([unit * amount for unit, amount in zip(problem[2], amounts)])
+    return making + sum([holding * level for holding, level in zip(problem[3], levels)])
+
+
+def stretches(demands, plan):
+    """The list of the amounts behind the start of all, and behind each stock 0, up to the next stock 0."""
+    found = []
+    first = 0
+    for period, level in enumerate(stock_levels(demands, plan)):
+        if level == 0:
+            found.append(plan[first:period + 1])
+            first = period + 1
+    return found
+
+
 def start_marks(plan):
     """The tuple of a mark for each period, as a ratio: 1 at the starts of the plan, 0 elsewhere."""
     return tuple([ONE if amount > 0 else ZERO for amount in plan])

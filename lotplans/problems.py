@@ -3,7 +3,9 @@
 from lotplans.checks import are_places, check_period, check_problem
 from lotplans.errors import BadPeriod, BadPlan, BadStarts
 from lotplans.lots import unit_cost
-from lotplans.plans import check_plan, has_intervals, interval_plan, start_periods, stock_levels
+from lotplans.plans import (
+    check_plan, has_intervals, interval_plan, running_cost, setup_cost, start_periods, stock_levels,
+)
 
 
 def kept_cost(problem, start, goal):
@@ -51,10 +53,7 @@ def cost(problem, plan):
     """What a plan costs: setups, units and holdings."""
     check_problem(problem)
     check_plan(problem, plan)
-    demands, setups, units, holdings = problem
-    total = sum([setups[period] for period in start_periods(plan)])
-    total += sum([unit * amount for unit, amount in zip(units, plan)])
-    return total + sum([holding * level for holding, level in zip(holdings, stock_levels(demands, plan))])
+    return setup_cost(problem, plan) + running_cost(problem, plan, stock_levels(problem[0], plan))
 
 
 def plan_of(problem, periods):

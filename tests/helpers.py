@@ -355,3 +355,102 @@ def some_plans(problem, source):
                 amounts[early] += moved
         found.append(tuple(amounts))
     return found
+
+
+def least_by_stocks(problem, lates=None, most=None, rooms=None, load=None):
+    """The least cost over all amounts, from period to period for all stocks, under one of the conditions; or None."""
+    demands, setups, units, holdings = problem
+    states = {0: 0}
+    for period, demand in enumerate(demands):
+        later = sum(demands[period + 1:])
+        found = {}
+        for stock, paid in states.items():
+            greatest = later + demand - stock
+            if rooms is not None:
+                greatest = min(greatest, rooms[period] + demand - stock)
+            if most is not None:
+                greatest = min(greatest, most)
+            for amount in range(0 if lates is not None else max(0, demand - stock), greatest + 1):
+                left = stock + amount - demand
+                begun = int(amount > 0) if load is None else -(-amount // load)
+                kept_or_owed = holdings[period] * left if left >= 0 else lates[period] * -left
+                total = paid + begun * setups[period] + units[period] * amount + kept_or_owed
+                if left not in found or total < found[left]:
+                    found[left] = total
+        states = found
+    return states.get(0)
+
+
+def all_amounts(total, many):
+    """All tuples of so many amounts that add up to a total."""
+    if many == 1:
+        return [(total,)]
+    return [(first,) + rest for first in range(total + 1) for rest in all_amounts(total - first, many - 1)]
+
+
+def moved_plans(plan, source, times):
+    """Amounts with the same sum, drawn by moving some from place to place, again and again from the plan told."""
+    found = []
+    for _ in range(times):
+        amounts = list(plan)
+        for _ in range(source.randint(1, 4)):
+            one, other = source.randrange(len(plan)), source.randrange(len(plan))
+            moved = source.choice([amounts[one], source.randint(0, amounts[one]), min(1, amounts[one])])
+            amounts[one] -= moved
+            amounts[other] += moved
+        found.append(tuple(amounts))
+    return found
+
+
+def is_fine_plan(problem, plan):
+    """Whether amounts are a plan, by the words of point 3."""
+    levels = stock_list(problem, plan)
+    return min(plan) >= 0 and min(levels) >= 0 and levels[-1] == 0
+
+
+def parts_between(problem, plan):
+    """The amounts behind the start of all and behind each stock 0, up to the next stock 0."""
+    found, part = [], []
+    for amount, level in zip(plan, stock_list(problem, plan)):
+        part.append(amount)
+        if level == 0:
+            found.append(part)
+            part = []
+    return found
+
+
+def scaled(problem, factor):
+    """The problem with demands and setups times a factor, so that whatever is least there costs so many times more."""
+    demands, setups = [tuple(factor * entry for entry in row) for row in problem[:2]]
+    return (demands, setups) + problem[2:]
+
+
+def great_problems(seed, times):
+    """Problems of twelve periods with great demands, and costs of which none outweighs all others."""
+    source = random.Random(seed)
+    found = []
+    for _ in range(times):
+        low = source.choice([0, 0, 500])
+        demands = tuple(source.randint(low, 999) if source.random() < 0.9 else 0 for _ in range(12))
+        setups = tuple(source.randint(0, 999) for _ in range(12))
+        units = tuple(source.randint(0, source.choice([0, 3])) for _ in range(12))
+        found.append((demands, setups, units, tuple(source.randint(0, 2) for _ in range(12))))
+    return found
+
+
+def bad_entry_rows():
+    """Values that are not tuples of three entries."""
+    found = list(ODD_VALUES) + [(1, 2), (1, 2, 3, 4), [1, 2, 3], {0: 1, 1: 2, 2: 3}, "123"]
+    for index in range(3):
+        for thing in (-1, 1000, True, False, None, "1", (), [1], {}, 10 ** 30):
+            row = [1, 2, 3]
+            row[index] = thing
+            found.append(tuple(row))
+    return found
+
+
+def bad_amounts():
+    """Values that are not integers from 1 to 9999."""
+    fine = [value for value in ODD_VALUES if type(value) is int and 1 <= value <= 9999]
+    odd = [value for value in ODD_VALUES if not (type(value) is int and value in fine)]
+    return odd + [0, 10000, -9999, 10 ** 30, True, False, "5", (5,), [5], {5: 5}, None]
