@@ -2,7 +2,7 @@
 
 from lotplans.checks import check_positive, is_tuple_of
 from lotplans.points import broken_row, check_point
-from lotplans.ratios import ZERO, is_less, is_ratio, times, total
+from lotplans.ratios import ZERO, are_weights, is_less, times, total
 from lotplans.spreads import spread
 
 
@@ -24,17 +24,12 @@ def shows_allocation(problem, point, value):
     demands = problem[0]
     amounts, marks = point
     many = len(demands)
-    if not is_tuple_of(value, many) or not all([are_parts(row, many) for row in value]):
+    if not is_tuple_of(value, many) or not all([are_weights(row, many) for row in value]):
         return False
     if not all([keeps_mark(demands, marks[start], start, row) for start, row in enumerate(value)]):
         return False
     met = [total([row[goal] for row in value]) for goal in range(many)]
     return [total(row) for row in value] == list(amounts) and met == [(demand, 1) for demand in demands]
-
-
-def are_parts(value, many):
-    """Whether a value is a tuple of so many ratios of at least 0."""
-    return is_tuple_of(value, many) and all([is_ratio(thing) and thing[0] >= 0 for thing in value])
 
 
 def keeps_mark(demands, mark, start, row):

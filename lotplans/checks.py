@@ -27,6 +27,11 @@ def are_entries(value, many):
     return is_tuple_of(value, many) and all([is_entry(thing) for thing in value])
 
 
+def are_some_entries(value, most):
+    """Whether a value is a tuple of entries, at least one of them and at most so many."""
+    return isinstance(value, tuple) and 1 <= len(value) <= most and are_entries(value, len(value))
+
+
 def are_amounts(value, many):
     """Whether a value is a tuple of so many integers of at least 0."""
     return is_tuple_of(value, many) and all([is_integer(thing) and thing >= 0 for thing in value])

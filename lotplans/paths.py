@@ -2,10 +2,10 @@
 
 
 def best_ways(many, step):
-    """The list, for the places from 0 to many, of the least cost and the amounts of the steps that lead there from 0.
+    """The list, for the places from 0 to many, of the least cost and the joined tuples of the steps that lead there.
 
-    step(place, goal) is the pair of the cost and the amounts of the step from a place to a later one, None if there
-    is none. Likewise None stands for a place where no steps lead to.
+    step(place, goal) is the pair of the cost and the tuple of the step from a place to a later one, None if there is
+    none. Likewise None stands for a place where no steps from 0 on lead to.
     """
     ways = [(0, ())]
     for goal in range(1, many + 1):

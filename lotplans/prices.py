@@ -2,6 +2,7 @@
 
 from lotplans.checks import are_entries, are_places, check_problem, is_integer, is_tuple_of
 from lotplans.errors import BadGroup, BadParts
+from lotplans.groups import groups_of
 from lotplans.intervals import least_cost, stage_costs
 from lotplans.lots import unit_cost
 from lotplans.ratios import is_less, is_ratio, ratio, total
@@ -94,14 +95,6 @@ def shows_shares(problem, parts, value):
     if total(value) != (least_cost(problem), 1):
         return False
     return not any([asks_too_much(problem, parts, value, group) for group in groups_of(len(parts))])
-
-
-def groups_of(many):
-    """The list of all groups of so many members."""
-    groups = [()]
-    for member in range(many):
-        groups = groups + [group + (member,) for group in groups]
-    return groups
 
 
 def asks_too_much(problem, parts, value, group):

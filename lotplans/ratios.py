@@ -1,6 +1,6 @@
 """Ratios: pairs (numerator, denominator) of integers in lowest terms, the denominator positive."""
 
-from math import gcd
+from math import gcd, lcm
 
 from lotplans.checks import is_integer, is_tuple_of
 
@@ -13,6 +13,16 @@ def is_ratio(value):
     if not is_tuple_of(value, 2) or not all([is_integer(thing) for thing in value]):
         return False
     return value[1] > 0 and gcd(value[0], value[1]) == 1
+
+
+def is_weight(value):
+    """Whether a value is a ratio of at least 0."""
+    return is_ratio(value) and value[0] >= 0
+
+
+def are_weights(value, many):
+    """Whether a value is a tuple of so many ratios of at least 0."""
+    return is_tuple_of(value, many) and all([is_weight(thing) for thing in value])
 
 
 def ratio(top, bottom):
@@ -57,3 +67,20 @@ def total(values):
 def is_less(one, other):
     """Whether the first ratio is less than the second one."""
     return one[0] * other[1] < other[0] * one[1]
+
+
+def greatest(values):
+    """The greatest one of a list of ratios."""
+    best = values[0]
+    for value in values:
+        if is_less(best, value):
+            best = value
+    return best
+
+
+def rising_order(values):
+    """The list of the places of the ratios of a list or tuple, by rising ratios, and then by place."""
+    common = 1
+    for value in values:
+        common = lcm(common, value[1])
+    return sorted(range(len(values)), key=lambda place: values[place][0] * (common // values[place][1]))

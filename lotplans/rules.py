@@ -5,10 +5,11 @@ from math import factorial
 from lotplans.checks import check_problem
 from lotplans.envelope import with_line
 from lotplans.errors import BadRule
+from lotplans.groups import groups_of
 from lotplans.intervals import least_cost
 from lotplans.lots import lot_table
 from lotplans.plans import interval_plan
-from lotplans.prices import check_parts, group_problem, groups_of
+from lotplans.prices import check_parts, group_problem
 from lotplans.ratios import ZERO, ratio
 
 RULES = ("balance", "meal", "unit")
