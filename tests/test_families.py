@@ -320,7 +320,8 @@ class Powers(Case):
         for value, index in bad_items():
             for rest in ((), None):
                 for call, values in ((power_cost, (fine,)), (power_cost, (None,)), (exponents, (rest,)),
-                                     (cluster_bound, (rest,)), (keeps_order, (rest, fine)), (keeps_order, (rest, None))):
+                                     (cluster_bound, (rest,)), (keeps_order, (rest, fine)),
+                                     (keeps_order, (rest, None))):
                     self.assert_raised(BadItems, {"index": index}, call, value, *values)
         for arcs in bad_arcs():
             for call, values in ((exponents, ()), (cluster_bound, ()), (keeps_order, (fine,)), (keeps_order, (None,))):

@@ -419,7 +419,8 @@ class Mix(Case):
             wrong.append((fine[0], (thing, fine[1][1]), fine[2]))
             wrong.append((((thing,) + fine[0][0][1:],),) + fine[1:])
             wrong.append(((((1, 1), thing, (2, 1)),),) + fine[1:])
-        for thing in RATIO_LIKE + [(2, True), (True, 1), (2,), (2, 1, 0), [2, 1], (2, None), ("2", 1), ((2, 1), (1, 1))]:
+        for thing in RATIO_LIKE + [(2, True), (True, 1), (2,), (2, 1, 0), [2, 1], (2, None), ("2", 1),
+                                   ((2, 1), (1, 1))]:
             wrong.append(((((1, 1), (0, 1), thing),),) + fine[1:])
         for thing in ODD_VALUES + [list(fine[0][0]), fine[0][0][:2], fine[0][0] + (0,)]:
             wrong.append(((thing,),) + fine[1:])
